@@ -37,17 +37,22 @@ def halved(shape):
     return [(ax, ay, cx, cy, x, y), (cx, cy, bx, by, x, y)]
 
 
-def shapes(plan):
-    """Tell all triangles of the plan, each ahead of its halves, all of a first half ahead of the second one."""
+def kin(starts):
+    """Tell triangles and all that comes of them, each ahead of its halves, all of its first half ahead of the other."""
     told = []
     # What is still to be told stands the other way round here, so that the next one is taken off the end.
-    waiting = roots(plan)[::-1]
+    waiting = starts[::-1]
     while waiting:
         shape = waiting.pop()
         told.append(shape)
         if middle(shape) is not None:
             waiting.extend(halved(shape)[::-1])
     return told
+
+
+def shapes(plan):
+    """Tell all triangles of the plan, in the order of the roots and of their kin."""
+    return kin(roots(plan))
 
 
 def turn(ax, ay, bx, by, at):

@@ -4,58 +4,12 @@ import unittest
 from braemantle.errors import LandError, NoHalf
 from braemantle.halves import covers, halved, middle, roots, shapes, twin, under
 from braemantle.lattice import cuts, ends, is_corner, parents
-from plans import GREAT, PLANS, VAST, plain, signature
+from plans import GREAT, PLANS, VAST, own_covers, own_roots, own_shapes, plain, signature
 
 # Corners of triangles in all ways: proper ones of both turns, flat ones, and single places.
 FEW = (-1, 0, 2)
 ALL_WAYS = list(itertools.product(FEW, repeat=6))
 AROUND = [(x, y) for x in range(-2, 4) for y in range(-2, 4)]
-
-
-def own_roots(plan):
-    wide, deep, side = plan
-    rows = []
-    for i in range(wide):
-        for j in range(deep):
-            x, y = i * side, j * side
-            if (i + j) % 2 == 0:
-                rows.append((x, y, x + side, y + side, x + side, y))
-                rows.append((x + side, y + side, x, y, x, y + side))
-            else:
-                rows.append((x + side, y, x, y + side, x + side, y + side))
-                rows.append((x, y + side, x + side, y, x, y))
-    return rows
-
-
-def own_kin(shape):
-    """A triangle and all that comes of it, as point 11 tells it."""
-    ax, ay, bx, by, cx, cy = shape
-    if (ax + bx) % 2 or (ay + by) % 2:
-        return [shape]
-    x, y = (ax + bx) // 2, (ay + by) // 2
-    return [shape] + own_kin((ax, ay, cx, cy, x, y)) + own_kin((cx, cy, bx, by, x, y))
-
-
-def own_shapes(plan):
-    return [shape for root in own_roots(plan) for shape in own_kin(root)]
-
-
-def area(p, q, r):
-    return abs((q[0] - p[0]) * (r[1] - p[1]) - (q[1] - p[1]) * (r[0] - p[0]))
-
-
-def on_side(p, q, at):
-    if area(p, q, at):
-        return False
-    return min(p[0], q[0]) <= at[0] <= max(p[0], q[0]) and min(p[1], q[1]) <= at[1] <= max(p[1], q[1])
-
-
-def own_covers(shape, at):
-    """A pair in a proper triangle parts it into three whose areas make up its own."""
-    a, b, c = shape[0:2], shape[2:4], shape[4:6]
-    if area(a, b, c):
-        return area(a, b, at) + area(b, c, at) + area(c, a, at) == area(a, b, c)
-    return on_side(a, b, at) or on_side(b, c, at) or on_side(c, a, at)
 
 
 def moved(shape, x, y):
@@ -151,7 +105,7 @@ class HalvingTest(unittest.TestCase):
     def test_shapes(self):
         for plan in PLANS:
             told = shapes(plan)
-            self.assertEqual(told, own_shapes(plan))
+            self.assertEqual(told, list(own_shapes(plan)))
             self.assertEqual(len(set(told)), len(told))
             layers = {2: 3, 4: 5, 8: 7}[plan[2]]
             self.assertEqual(len(told), plan[0] * plan[1] * 2 * (2 ** layers - 1))

@@ -2,6 +2,7 @@
 
 import ast
 import builtins
+import functools
 import pathlib
 import re
 import unittest
@@ -37,6 +38,7 @@ def files():
     return sorted(path for path in PACKAGE.rglob("*") if "__pycache__" not in path.parts)
 
 
+@functools.lru_cache(maxsize=None)
 def trees():
     return [(path, ast.parse(path.read_text("ascii"))) for path in files()]
 
@@ -65,6 +67,21 @@ def called(node):
     if isinstance(node, ast.Call) and isinstance(node.func, ast.Attribute):
         return node.func.attr
     return None
+
+
+@functools.lru_cache(maxsize=None)
+def parted():
+    """For each node of the package the one that it stands in."""
+    return {child: node for _, node in nodes(ast.AST) for child in ast.iter_child_nodes(node)}
+
+
+def takes(args, own):
+    """The least and the greatest number of things by place, the names that may be handed in, and those that must."""
+    names = [each.arg for each in args.args][1 if own else 0:]
+    alone = [each.arg for each in args.kwonlyargs]
+    must = names[:len(names) - len(args.defaults)]
+    must += [name for name, default in zip(alone, args.kw_defaults) if default is None]
+    return names, set(names + alone), set(must)
 
 
 class FilesTest(unittest.TestCase):
@@ -107,6 +124,22 @@ class FormTest(unittest.TestCase):
                 kept = [name for top in home.body for name in self.names_of(top)]
                 self.assertIn(each.name, kept, where)
 
+    def test_no_files_draw_from_one_another(self):
+        drawn = {path.stem: {node.module.split(".", 1)[1] for node in tree.body if isinstance(node, ast.ImportFrom)}
+                 for path, tree in trees()}
+        while drawn:
+            ready = [name for name in drawn if not drawn[name] & set(drawn)]
+            self.assertTrue(ready, sorted(drawn))
+            for name in ready:
+                del drawn[name]
+
+    def test_each_name_of_a_top_once(self):
+        for path, tree in trees():
+            names = [name for top in tree.body for name in self.names_of(top)]
+            names += [each.asname or each.name for top in tree.body if isinstance(top, ast.ImportFrom)
+                      for each in top.names]
+            self.assertEqual(sorted(set(names)), sorted(names), path.name)
+
     def names_of(self, top):
         if isinstance(top, (ast.FunctionDef, ast.ClassDef)):
             return [top.name]
@@ -127,6 +160,99 @@ class FormTest(unittest.TestCase):
         methods = {row.name for _, node in nodes(ast.ClassDef) for row in node.body if isinstance(row, ast.FunctionDef)}
         values = {node.attr for _, node in nodes(ast.Attribute) if isinstance(node.ctx, ast.Store)}
         self.assertEqual(methods & values, set())
+
+
+    def test_values_that_are_asked_are_given_somewhere(self):
+        given = {node.attr for _, node in nodes(ast.Attribute) if isinstance(node.ctx, ast.Store)}
+        for where, node in nodes(ast.Attribute):
+            around = parted()[node] if isinstance(node.ctx, ast.Load) else None
+            if isinstance(node.ctx, ast.Load) and not (isinstance(around, ast.Call) and around.func is node):
+                self.assertIn(node.attr, given, where)
+
+    def test_classes_are_called_or_asked_for_alone(self):
+        around = parted()
+        classes = {node.name for _, node in nodes(ast.ClassDef)}
+        for where, node in nodes(ast.Name):
+            if node.id in classes:
+                outer = around[node]
+                fine = isinstance(outer, (ast.ClassDef, ast.ExceptHandler)) or called(outer) == "isinstance"
+                self.assertTrue(fine or isinstance(outer, ast.Call) and outer.func is node, where)
+
+    def test_sets(self):
+        around = parted()
+        for where, node in nodes(ast.Set, ast.SetComp, ast.Call):
+            if not isinstance(node, ast.Call) or called(node) == "set":
+                outer = around[node]
+                while isinstance(outer, ast.BinOp):
+                    outer = around[outer]
+                fine = called(outer) in ("sorted", "len") or isinstance(outer, ast.Compare)
+                self.assertTrue(fine or isinstance(outer, ast.Assign), where)
+
+    def test_methods_with_two_underscores(self):
+        for where, node in nodes(ast.FunctionDef):
+            if node.name in ("__eq__", "__len__", "__str__", "__repr__"):
+                for row in ast.walk(node):
+                    self.assertNotIsInstance(row, (ast.Assign, ast.AugAssign, ast.Delete), where)
+                    if isinstance(row, ast.Return) and node.name != "__eq__":
+                        self.check_told(node.name, row.value, where)
+                self.assertIsInstance(node.body[-1], ast.Return, where)
+
+    def check_told(self, name, told, where):
+        if name == "__len__":
+            self.assertTrue(called(told) == "len" or isinstance(told, ast.Constant), where)
+        else:
+            text = isinstance(told, ast.JoinedStr) or isinstance(told, ast.Constant) and isinstance(told.value, str)
+            self.assertTrue(text or called(told) in ("str", "repr", "join"), where)
+
+    def test_raised_errors_are_made_on_the_spot(self):
+        classes = {node.name for _, node in nodes(ast.ClassDef)}
+        for where, node in nodes(ast.Raise):
+            if node.exc is not None:
+                self.assertIsInstance(node.exc, ast.Call, where)
+                self.assertIsInstance(node.exc.func, ast.Name, where)
+                self.assertIn(node.exc.func.id, classes, where)
+
+    def test_what_a_loop_walks_is_not_changed_in_it(self):
+        changes = {"append", "clear", "extend", "insert", "pop", "remove", "reverse", "setdefault", "update"}
+        for where, node in nodes(ast.For):
+            walked = ast.dump(node.iter)
+            for inner in [inner for row in node.body for inner in ast.walk(row)]:
+                if called(inner) in changes and isinstance(inner.func, ast.Attribute):
+                    self.assertNotIn(ast.dump(inner.func.value), walked, where)
+
+
+class CallsTest(unittest.TestCase):
+    """Each call of an own def, class or method hands in what it takes."""
+
+    def test_defs_and_classes(self):
+        taken = {}
+        for _, tree in trees():
+            for top in tree.body:
+                if isinstance(top, ast.FunctionDef):
+                    taken.setdefault(top.name, []).append(takes(top.args, False))
+                elif isinstance(top, ast.ClassDef):
+                    inits = [row for row in top.body if isinstance(row, ast.FunctionDef) and row.name == "__init__"]
+                    if inits:
+                        taken.setdefault(top.name, []).append(takes(inits[0].args, True))
+        self.check(taken, ast.Name)
+
+    def test_methods(self):
+        taken = {}
+        for _, node in nodes(ast.ClassDef):
+            for row in node.body:
+                if isinstance(row, ast.FunctionDef) and row.name != "__init__":
+                    taken.setdefault(row.name, []).append(takes(row.args, True))
+        self.check(taken, ast.Attribute)
+
+    def check(self, taken, kind):
+        for where, node in nodes(ast.Call):
+            if isinstance(node.func, kind) and called(node) in taken:
+                fits = []
+                for names, every, must in taken[called(node)]:
+                    handed = names[:len(node.args)] + [each.arg for each in node.keywords]
+                    many = len(node.args) <= len(names) and len(set(handed)) == len(handed)
+                    fits.append(many and must <= set(handed) <= every)
+                self.assertIn(True, fits, where)
 
 
 class NamesTest(unittest.TestCase):
