@@ -1,6 +1,6 @@
 """The lattice: plans, places, corners of blocks, and the cuts with their kin."""
 
-from braemantle.errors import BadSize, NoCut, NoPlace
+from braemantle.errors import BadSize, NoCut, NoPlace, OtherPlan
 
 SIDE = 4
 BLOCKS = (1, 2, 3)
@@ -18,6 +18,12 @@ def planned(wide=1, deep=1, *, side=SIDE):
         if not is_whole(size) or size not in allowed:
             raise BadSize(size)
     return (wide, deep, side)
+
+
+def need_same(one, other):
+    """Refuse things of two plans that differ."""
+    if one != other:
+        raise OtherPlan("the two plans differ")
 
 
 def in_land(plan, at):

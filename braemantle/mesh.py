@@ -1,9 +1,9 @@
 """Meshes: what is left of the roots where each triangle whose middle is cut gives way to its halves."""
 
 from braemantle.closing import crack, gathered
-from braemantle.errors import Cracked, NotIn, NoTriangle, OtherPlan, Twice
+from braemantle.errors import Cracked, NotIn, NoTriangle, Twice
 from braemantle.halves import halved, middle, roots
-from braemantle.lattice import is_corner, need_cut
+from braemantle.lattice import is_corner, need_cut, need_same
 
 
 def sides(shape):
@@ -75,18 +75,13 @@ class Mesh:
 
     def joined(self, other):
         """Tell the mesh with the cuts of both meshes."""
-        self.need_plan(other)
+        need_same(self.plan, other.plan)
         return Mesh(self.plan, self.cuts() + other.cuts())
 
     def met(self, other):
         """Tell the mesh with the cuts that both meshes have."""
-        self.need_plan(other)
+        need_same(self.plan, other.plan)
         return Mesh(self.plan, [at for at in self.marks if at in other.marks])
-
-    def need_plan(self, other):
-        """Refuse a mesh of another plan."""
-        if self.plan != other.plan:
-            raise OtherPlan("the two meshes have different plans")
 
     def beside(self, shape):
         """Tell the triangles beyond the three sides of a triangle, None where a side lies on the land's rim."""

@@ -1,20 +1,14 @@
 """Heights of a mesh over a land: at spots, against the land and another mesh, and the room below it."""
 
-from braemantle.errors import NoSpot, OtherPlan
+from braemantle.errors import NoSpot
 from braemantle.halves import covers, under
-from braemantle.lattice import ends, in_land, places
+from braemantle.lattice import ends, in_land, need_same, places
 from braemantle.shares import less, minus, plus, share, times
-
-
-def need_plan(land, mesh):
-    """Refuse a mesh of another plan than the land's."""
-    if land.plan != mesh.plan:
-        raise OtherPlan("the land and the mesh have different plans")
 
 
 def height_at(land, mesh, spot):
     """Tell the height of a mesh at a spot."""
-    need_plan(land, mesh)
+    need_same(land.plan, mesh.plan)
     (over, part), (other_over, other_part) = spot
     # All is made so many times as great that the spot becomes a pair of whole numbers.
     scale = part * other_part
@@ -29,7 +23,7 @@ def height_at(land, mesh, spot):
 
 def drawn(land, mesh):
     """Tell the heights of a mesh at all places, by places."""
-    need_plan(land, mesh)
+    need_same(land.plan, mesh.plan)
     heights = {}
     for shape in mesh.triangles():
         rise, climb, base, whole = land.flat(shape)
@@ -67,7 +61,7 @@ def slope(land, shape):
 
 def volume(land, mesh):
     """Tell how much room is between a mesh and height nought, what is below nought counted as less than nothing."""
-    need_plan(land, mesh)
+    need_same(land.plan, mesh.plan)
     sixths = 0
     for shape in mesh.triangles():
         # A triangle's room is its ground times the third part of its heights' sum; the plane tells twice the ground.

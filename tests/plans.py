@@ -3,7 +3,11 @@
 import functools
 import inspect
 import random
+import unittest
 from fractions import Fraction
+
+from braemantle.land import Land
+from braemantle.mesh import Mesh
 
 PLANS = [(wide, deep, side) for wide in (1, 2, 3) for deep in (1, 2, 3) for side in (2, 4, 8)]
 
@@ -108,6 +112,23 @@ def kin_of_cuts(plan):
             parents[at] = sorted(parents[at] + [(cx, cy)])
     children = {at: [child for child in every if at in parents[child]] for at in every}
     return parents, children
+
+
+@functools.lru_cache(maxsize=None)
+def own_levels(plan):
+    """The levels of all cuts, from the cuts without parents down."""
+    parents = kin_of_cuts(plan)[0]
+    levels = {at: 0 for at in parents if not parents[at]}
+    while len(levels) < len(parents):
+        waiting = [at for at in parents if at not in levels]
+        levels.update({at: levels[parents[at][0]] + 1 for at in waiting if parents[at][0] in levels})
+    return levels
+
+
+def own_order(plan, cuts):
+    """The sending order."""
+    levels = own_levels(plan)
+    return sorted(set(cuts), key=lambda at: (levels[at], at))
 
 
 def own_above(plan, cuts):
@@ -222,3 +243,76 @@ def own_gap(rows, shape):
 
 def own_gaps(plan, rows):
     return {shape: own_gap(rows, shape) for shape in own_shapes(plan)}
+
+
+def three(shape):
+    """The corners a, b and c of a triangle."""
+    return [shape[0:2], shape[2:4], shape[4:6]]
+
+
+def every_cut(plan):
+    return [at for at in places(plan) if at[0] % plan[2] or at[1] % plan[2]]
+
+
+def land_of(plan, word, high=1000):
+    """A land with random heights, the same ones in each run."""
+    return Land(plan, random_rows(plan, seeded(word, plan), high))
+
+
+def meshes(plan, many, word):
+    """Meshes of a plan, the same ones in each run: one without a cut, one with all, and random ones."""
+    return [Mesh(plan, cuts) for cuts in closed_sets(plan, many, seeded(word, plan))]
+
+
+class Case(unittest.TestCase):
+    def refused(self, kind, values, function, *things, **named):
+        """A call is refused by just this class, with just these values, each of its own kind."""
+        with self.assertRaises(kind) as caught:
+            function(*things, **named)
+        self.assertIs(type(caught.exception), kind)
+        for name, value in values.items():
+            told = getattr(caught.exception, name)
+            self.assertTrue(told == value and type(told) is type(value), (name, kind))
+
+
+def own_limit(tolerance, boxes, shape):
+    """The limit of a triangle by point 33, all tolerances as fractions."""
+
+    def meet(ones, others):
+        """Two stretches have something in common where the later beginning is no later than the earlier end."""
+        return max(min(ones), min(others)) <= min(max(ones), max(others))
+
+    found = [each for x, y, xx, yy, each in boxes if meet((x, xx), shape[0::2]) and meet((y, yy), shape[1::2])]
+    return min(found) if found else tolerance
+
+
+def own_far(eye, shape):
+    if eye is None:
+        return 1
+    return 1 + min((eye[0] - x) ** 2 + (eye[1] - y) ** 2 for x, y in three(shape))
+
+
+def own_lets(error, tolerance, eye, boxes, shape):
+    return error * error <= own_far(eye, shape) * own_limit(tolerance, boxes, shape) ** 2
+
+
+def some_views(plan, chance):
+    """Things to make views of: tolerance, eye and boxes, the tolerances as fractions."""
+    wide, deep, side = plan
+    right, top = wide * side, deep * side
+
+    def tolerance():
+        return Fraction(chance.choice([0, 1, 3, 10, 40, 150, 400]), chance.choice([1, 1, 2, 3, 7]))
+
+    def box():
+        xs = [chance.randint(-2, right + 2) for _ in range(2)]
+        ys = [chance.randint(-2, top + 2) for _ in range(2)]
+        return (xs[0], ys[0], xs[1], ys[1], tolerance())
+
+    eyes = [None, (0, 0), (right, top), (right // 2, 1), (-3, top + 5)]
+    return [(tolerance(), eye, [box() for _ in range(many)]) for eye in eyes for many in (0, 1, 3)]
+
+
+def handed_boxes(boxes):
+    """Boxes with fractions as boxes that are handed in: whole tolerances as numbers, others as shares."""
+    return [box[:4] + (int(box[4]) if box[4].denominator == 1 else pair(box[4]),) for box in boxes]

@@ -6,7 +6,8 @@ from braemantle.errors import BadHeight, BadSize, LandError, LookError, NoPlace,
 from braemantle.land import HIGH, Land
 from braemantle.mesh import Mesh
 from plans import (
-    GREAT, PLANS, VAST, beyond, own_gaps, own_kin, own_shapes, pair, places, plain, random_rows, seeded, signature)
+    GREAT, PLANS, VAST, Case, beyond, own_gaps, own_kin, own_shapes, pair, places, plain, random_rows, seeded,
+    signature)
 
 SMALL = [(1, 1, 2), (2, 1, 2), (1, 3, 2), (1, 1, 4), (2, 1, 4)]
 EACH_SIDE = [(1, 1, 2), (2, 2, 2), (3, 1, 2), (1, 1, 4), (1, 2, 4), (1, 1, 8)]
@@ -65,15 +66,7 @@ class Like:
         return self.go(self.states[self.at - 1], self.rows())
 
 
-class LandTest(unittest.TestCase):
-    def refused(self, kind, values, function, *things, **named):
-        with self.assertRaises(kind) as caught:
-            function(*things, **named)
-        self.assertIs(type(caught.exception), kind)
-        for name, value in values.items():
-            told = getattr(caught.exception, name)
-            self.assertTrue(told == value and type(told) is type(value), (name, kind))
-
+class LandTest(Case):
     def same(self, land, like):
         self.assertEqual(land.rows(), like.rows())
         self.assertEqual((land.edition, land.tries), (like.edition, like.tries))

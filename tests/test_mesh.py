@@ -4,18 +4,10 @@ from unittest import mock
 from braemantle.errors import Cracked, LandError, LookError, NoCut, NoPlace, NoTriangle, NotIn, OtherPlan, Twice
 from braemantle.mesh import Mesh
 from plans import (
-    GREAT, PLANS, VAST, area, beyond, closed_sets, kin_of_cuts, on_side, own_crack, own_roots, own_shapes,
-    own_triangles, places, plain, seeded, signature, some_cuts)
+    GREAT, PLANS, VAST, Case, area, beyond, closed_sets, every_cut, kin_of_cuts, meshes, on_side, own_crack, own_roots,
+    own_shapes, own_triangles, places, plain, seeded, signature, some_cuts, three)
 
 SMALL = [(1, 1, 2), (2, 1, 2), (3, 2, 2), (1, 1, 4), (1, 2, 4), (2, 2, 4), (1, 1, 8), (2, 1, 8)]
-
-
-def every_cut(plan):
-    return [at for at in places(plan) if at[0] % plan[2] or at[1] % plan[2]]
-
-
-def three(shape):
-    return [shape[0:2], shape[2:4], shape[4:6]]
 
 
 def three_sides(shape):
@@ -23,20 +15,7 @@ def three_sides(shape):
     return [{a, b}, {b, c}, {c, a}]
 
 
-def meshes(plan, many, word):
-    return [Mesh(plan, cuts) for cuts in closed_sets(plan, many, seeded(word, plan))]
-
-
-class Refusals(unittest.TestCase):
-    def refused(self, kind, values, function, *things):
-        with self.assertRaises(kind) as caught:
-            function(*things)
-        self.assertIs(type(caught.exception), kind)
-        for name, value in values.items():
-            self.assertTrue(getattr(caught.exception, name) == value, (name, kind))
-
-
-class MakingTest(Refusals):
+class MakingTest(Case):
     def test_all_plans(self):
         for plan in PLANS:
             for cuts in closed_sets(plan, 3, seeded("making", plan)):
@@ -129,7 +108,7 @@ class MakingTest(Refusals):
         self.assertEqual(signature(Mesh.beside), plain("self", "shape"))
 
 
-class ValuesTest(Refusals):
+class ValuesTest(Case):
     def test_handed_and_told_lists_changed_behind_the_call(self):
         plan, cuts = (1, 1, 4), [(2, 2), (0, 2)]
         mesh = Mesh(plan, cuts)
@@ -203,7 +182,7 @@ class ValuesTest(Refusals):
                 self.assertEqual((str(mesh), repr(mesh)), (asked, f"Mesh({len(mesh.cuts())})"))
 
 
-class StepsTest(Refusals):
+class StepsTest(Case):
     def check_cut(self, mesh, at, parents):
         lacking = [place for place in parents[at] if place not in mesh.cuts()]
         if at in mesh.cuts():
@@ -269,7 +248,7 @@ class StepsTest(Refusals):
         self.assertTrue(issubclass(NotIn, LookError))
 
 
-class TwoMeshesTest(Refusals):
+class TwoMeshesTest(Case):
     def test_joined_and_met(self):
         for plan in PLANS:
             told = meshes(plan, 3, "two")
@@ -296,7 +275,7 @@ class TwoMeshesTest(Refusals):
         self.assertTrue(issubclass(OtherPlan, LandError))
 
 
-class BesideTest(Refusals):
+class BesideTest(Case):
     def test_each_side_of_each_triangle(self):
         for plan in SMALL + [(3, 3, 2), (3, 2, 4)]:
             wide, deep, side = plan

@@ -7,8 +7,8 @@ from braemantle.lattice import ends
 from braemantle.mesh import Mesh
 from braemantle.spots import apart, height_at, off, slide, slope, volume
 from plans import (
-    GREAT, PLANS, VAST, area, beyond, closed_sets, corner_highs, own_covers, own_shapes, own_triangles, own_under,
-    pair, places, plain, plane_at, random_rows, seeded, signature)
+    GREAT, PLANS, VAST, Case, area, beyond, corner_highs, land_of, meshes, own_covers, own_shapes, own_triangles,
+    own_under, pair, places, plain, plane_at, seeded, signature, three)
 
 EACH_SIDE = [(1, 1, 2), (2, 1, 2), (3, 2, 2), (1, 1, 4), (1, 2, 4), (2, 2, 4), (1, 1, 8), (2, 1, 8)]
 PARTS = [(0, 1), (1, 1), (1, 2), (-1, 1), (-7, 3), (GREAT, 7), (-GREAT, 1), (1, GREAT), (3, 4)]
@@ -16,18 +16,6 @@ PARTS = [(0, 1), (1, 1), (1, 2), (-1, 1), (-7, 3), (GREAT, 7), (-GREAT, 1), (1, 
 
 def spot(x, y):
     return (pair(x), pair(y))
-
-
-def land_of(plan, word, high=1000):
-    return Land(plan, random_rows(plan, seeded(word, plan), high))
-
-
-def meshes(plan, many, word):
-    return [Mesh(plan, cuts) for cuts in closed_sets(plan, many, seeded(word, plan))]
-
-
-def three(shape):
-    return [shape[0:2], shape[2:4], shape[4:6]]
 
 
 def own_heights(land, mesh):
@@ -47,16 +35,7 @@ def own_farthest(ones, others):
     return (pair(most), min(at for at in distances if distances[at] == most))
 
 
-class SpotsTest(unittest.TestCase):
-    def refused(self, kind, values, function, *things, **named):
-        with self.assertRaises(kind) as caught:
-            function(*things, **named)
-        self.assertIs(type(caught.exception), kind)
-        for name, value in values.items():
-            self.assertTrue(getattr(caught.exception, name) == value, (name, kind))
-
-
-class HeightAtTest(SpotsTest):
+class HeightAtTest(Case):
     def test_at_places(self):
         for plan in EACH_SIDE:
             land = land_of(plan, "places")
@@ -139,7 +118,7 @@ class HeightAtTest(SpotsTest):
         self.assertEqual(height_at(mesh=Mesh((1, 1, 2)), spot=((3, 2), (1, 3)), land=land), (4, 3))
 
 
-class DistancesTest(SpotsTest):
+class DistancesTest(Case):
     def test_off(self):
         for plan in PLANS:
             for high in (2, 1000):
@@ -214,7 +193,7 @@ class DistancesTest(SpotsTest):
                     self.refused(OtherPlan, {}, volume, land, wrong)
 
 
-class SlopeTest(SpotsTest):
+class SlopeTest(Case):
     def test_leads_from_corner_to_corner(self):
         for plan in PLANS:
             land = land_of(plan, "slope")
@@ -242,7 +221,7 @@ class SlopeTest(SpotsTest):
                 self.refused(NoTriangle, {"shape": wrong}, slope, Land(plan), wrong)
 
 
-class VolumeTest(SpotsTest):
+class VolumeTest(Case):
     def test_sum_over_the_triangles(self):
         for plan in PLANS:
             land = land_of(plan, "volume")
@@ -277,7 +256,7 @@ class VolumeTest(SpotsTest):
         self.assertEqual(volume(land, mesh.cut((1, 1))), (-2, 3))
 
 
-class SlideTest(SpotsTest):
+class SlideTest(Case):
     def test_each_cut(self):
         for plan in PLANS:
             land = land_of(plan, "slide")
