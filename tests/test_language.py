@@ -185,8 +185,9 @@ class FormTest(unittest.TestCase):
                 outer = around[node]
                 while isinstance(outer, ast.BinOp):
                     outer = around[outer]
-                fine = called(outer) in ("sorted", "len") or isinstance(outer, ast.Compare)
-                self.assertTrue(fine or isinstance(outer, ast.Assign), where)
+                # The rules would let a set be kept, too, under many bonds; the package keeps dicts of True.
+                straight = called(outer) in ("sorted", "len") and not outer.keywords
+                self.assertTrue(straight or isinstance(outer, ast.Compare), where)
 
     def test_methods_with_two_underscores(self):
         for where, node in nodes(ast.FunctionDef):
@@ -211,6 +212,43 @@ class FormTest(unittest.TestCase):
                 self.assertIsInstance(node.exc, ast.Call, where)
                 self.assertIsInstance(node.exc.func, ast.Name, where)
                 self.assertIn(node.exc.func.id, classes, where)
+
+    def test_nothing_is_tried(self):
+        """The rules let little stand in a try; the package does without."""
+        self.assertEqual(nodes(ast.Try), [])
+
+    def test_values_of_tops_are_plain(self):
+        plain = (ast.Constant, ast.Tuple, ast.Dict, ast.Load, ast.UnaryOp, ast.USub)
+        for path, tree in trees():
+            for top in tree.body:
+                if isinstance(top, ast.Assign):
+                    for node in ast.walk(top.value):
+                        self.assertIsInstance(node, plain, path.name)
+                        self.assertTrue(node is top.value or not isinstance(node, ast.Dict), path.name)
+
+    def test_dicts_of_tops_are_only_read(self):
+        around = parted()
+        for path, tree in trees():
+            kept = {name for top in tree.body if isinstance(top, ast.Assign) and isinstance(top.value, ast.Dict)
+                    for name in self.names_of(top)}
+            for node in ast.walk(tree):
+                if isinstance(node, ast.Name) and node.id in kept and isinstance(node.ctx, ast.Load):
+                    outer = around[node]
+                    index = isinstance(outer, ast.Subscript) and isinstance(outer.ctx, ast.Load)
+                    self.assertTrue(index or isinstance(outer, ast.Compare), f"{path.name}:{node.lineno}")
+
+    def test_names_with_a_star(self):
+        around = parted()
+        for where, node in nodes(ast.Starred):
+            self.assertIsInstance(node.ctx, ast.Store, where)
+            row = around[around[node]]
+            self.assertIsInstance(row, ast.Assign, where)
+            self.assertNotIn(called(row.value), WALKED | {"items", "keys", "values"}, where)
+
+    def test_what_is_deleted(self):
+        for where, node in nodes(ast.Delete):
+            for target in node.targets:
+                self.assertIsInstance(target, ast.Subscript, where)
 
     def test_what_a_loop_walks_is_not_changed_in_it(self):
         changes = {"append", "clear", "extend", "insert", "pop", "remove", "reverse", "setdefault", "update"}
@@ -243,6 +281,17 @@ class CallsTest(unittest.TestCase):
                 if isinstance(row, ast.FunctionDef) and row.name != "__init__":
                     taken.setdefault(row.name, []).append(takes(row.args, True))
         self.check(taken, ast.Attribute)
+
+    def test_pythons_own(self):
+        """Keywords stand at few of Python's own names, and at none of its methods."""
+        own = {row.name for _, row in nodes(ast.FunctionDef, ast.ClassDef)}
+        keywords = {"sorted": {"key", "reverse"}, "min": {"key", "default"}, "max": {"key", "default"},
+                    "sum": {"start"}, "enumerate": {"start"}, "zip": {"strict"}}
+        for where, node in nodes(ast.Call):
+            if called(node) not in own:
+                handed = {each.arg for each in node.keywords}
+                allowed = keywords.get(called(node), set()) if isinstance(node.func, ast.Name) else set()
+                self.assertLessEqual(handed, allowed, where)
 
     def check(self, taken, kind):
         for where, node in nodes(ast.Call):
