@@ -9,8 +9,9 @@ def way(mesh, other, *, over=False):
     need_same(mesh.plan, other.plan)
     plan = mesh.plan
     surplus = [at for at in mesh.cuts() if not other.has(at)]
-    mended = [("mend", at) for at in sorted(surplus, key=lambda at: (-level(plan, at), at))]
-    added = [("cut", at) for at in order(plan, [at for at in other.cuts() if not mesh.has(at)])]
+    lack = [at for at in other.cuts() if not mesh.has(at)]
+    mended = [("mend", at) for at in sorted(surplus, key=lambda place: (-level(plan, place), place))]
+    added = [("cut", at) for at in order(plan, lack)]
     return added + mended if over else mended + added
 
 
