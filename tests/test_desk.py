@@ -171,6 +171,17 @@ class RefusalsTest(Case):
                          f"put 2 {number} 5", f"put 2 2 {number}", f"view a {number}", f"budget {number}"]:
                 self.bad(line)
 
+    def test_every_sign_as_a_number_and_a_name(self):
+        desk = desk_with("land 1 1 2")
+        for number in range(256):
+            sign = chr(number)
+            for line, good in [(f"put 0 0 {sign}", sign in "0123456789"), (f"view a {sign}", sign in "0123456789"),
+                               (f"view {sign} 1", sign in "abcdefghijklmnopqrstuvwxyz")]:
+                if good:
+                    self.assertIn(desk.do(line).split(" ")[0], ("ok", "turned"))
+                else:
+                    self.refused(BadLine, {"line": line}, desk.do, line)
+
     def test_numbers_of_nine_figures(self):
         desk = desk_with("land 1 1 4")
         self.refused(NoPlace, {"at": (123456789, 0)}, desk.do, "put 123456789 0 1")

@@ -100,6 +100,9 @@ class PageTest(Case):
                 words[number] = word
                 rows = [" ".join(words[3 * k:3 * k + 3]) for k in range(3)]
                 self.refused(BadPage, {"row": number // 3 + 1}, read_page, "\n".join(["land 1 1 2"] + rows))
+        for number in range(256):
+            for word in (chr(number), "1" + chr(number), "-" + chr(number)):
+                self.check("land 1 1 2\n5 5 5\n5 " + word + " 5\n5 5 5")
         for word in ["1000", "-1000", "0", "-1", "999", "10"]:
             self.assertIsNone(self.check("land 1 1 2\n5 5 5\n5 " + word + " 5\n5 5 5"))
 
